@@ -1,0 +1,1 @@
+"""Twoheads: loops over two ascending rows, judged for all rows."""
