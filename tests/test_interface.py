@@ -1,0 +1,66 @@
+"""Names, places and arguments of what the interface lists."""
+
+import inspect
+import unittest
+from importlib import import_module
+
+CLASSES = {
+    "items": {"Item": {"__init__": "rank name", "before": "other", "same": "other", "__eq__": "other",
+                       "__str__": ""}},
+    "rows": {"Row": {
+        "__init__": "items", "of": "items", "__getitem__": "at", "__setitem__": "at worth",
+        "__len__": "", "listed": "", "ranks": "", "number": "rank", "blocks": "", "__contains__": "x",
+        "__iter__": "", "__eq__": "other", "within": "other", "settle": "by", "trial": "",
+        "attempt": "deed", "__add__": "other", "__radd__": "other", "__iadd__": "other",
+        "__or__": "other", "__ror__": "other", "__ior__": "other", "__and__": "other",
+        "__rand__": "other", "__iand__": "other", "__sub__": "other", "__rsub__": "other",
+        "__isub__": "other", "__xor__": "other", "__rxor__": "other", "__ixor__": "other",
+        "__mul__": "other", "__rmul__": "other",
+    }},
+    "asking": {"Test": {"__init__": "cases", "read": "text", "__str__": "", "__eq__": "other",
+                        "flag_names": "", "turned": "", "__call__": "look"}},
+    "parts": {name: {"__init__": arguments, "head": "", "turned": "", "__eq__": "other"}
+              for name, arguments in (("Put", "side"), ("Step", "side"), ("Pairs", "side"),
+                                      ("Set", "flag"), ("Clear", "flag"), ("Break", ""), ("Stop", ""),
+                                      ("If", "test block other"), ("While", "test block other"))},
+    "walks": {"Walk": {"__init__": "parts", "read": "text", "__str__": "", "__len__": "",
+                       "__getitem__": "at", "lines": "", "__eq__": "other", "__neg__": "",
+                       "__add__": "other", "__call__": "left right", "sample": "name"}},
+}
+FUNCTIONS = {"first_stands": "walk", "is_stand": "walk value", "moves": "walk stand", "stands": "walk"}
+
+
+def arguments_of(made):
+    return [name for name in inspect.signature(made).parameters if name not in ("self", "cls")]
+
+
+class InterfaceTests(unittest.TestCase):
+    def test_classes(self):
+        for file, classes in CLASSES.items():
+            module = import_module(f"twoheads.{file}")
+            for name, methods in classes.items():
+                made = getattr(module, name)
+                self.assertEqual(made.__module__, module.__name__)
+                for method, arguments in methods.items():
+                    self.assertIn(method, vars(made), name)
+                    self.assertEqual(arguments_of(getattr(made, method)), arguments.split(), method)
+
+    def test_functions(self):
+        module = import_module("twoheads.stands")
+        for name, arguments in FUNCTIONS.items():
+            made = getattr(module, name)
+            self.assertEqual(made.__module__, module.__name__)
+            self.assertEqual(arguments_of(made), arguments.split())
+
+    def test_kinds_of_methods(self):
+        walks, rows, asking = [import_module(f"twoheads.{name}") for name in ("walks", "rows", "asking")]
+        for made, name in ((walks.Walk, "read"), (rows.Row, "of"), (asking.Test, "read")):
+            self.assertIsInstance(vars(made)[name], classmethod)
+        self.assertIsInstance(vars(walks.Walk)["sample"], staticmethod)
+        self.assertIsInstance(vars(walks.Walk)["flags"], property)
+        for made in (walks.Walk.lines, rows.Row.blocks, import_module("twoheads.stands").moves):
+            self.assertTrue(inspect.isgeneratorfunction(made))
+
+
+if __name__ == "__main__":
+    unittest.main()
