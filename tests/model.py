@@ -31,6 +31,10 @@ class Model:
         self.flags = set()
         self.met = set()
         self.moments = []
+        self.events = []
+        self.seen = []
+        self.passed = {"left": 0, "right": 0}
+        self.compares = 0
         self.end = sum(map(sized, parts))
 
     def run(self):
@@ -41,7 +45,10 @@ class Model:
         except Ended as ended:
             fall = ended.args[0] if ended.args else None
         if fall is None:
-            self.moments.append(self.stand(self.end))
+            self.see(self.end)
+        else:
+            self.events.append(fall)
+            self.see(None)
         return self.put, fall
 
     def block(self, parts, line):
@@ -70,19 +77,26 @@ class Model:
     def act(self, part, line):
         if isinstance(part, Put):
             self.put.append(self.head(part.side, line))
+            self.events.append(("put", line, part.side, self.passed[part.side]))
         elif isinstance(part, Step):
             self.head(part.side, line)
             self.rows[part.side].pop(0)
+            self.events.append(("step", line, part.side, self.passed[part.side]))
+            self.passed[part.side] += 1
             self.met.clear()
         elif isinstance(part, Pairs):
             self.pairs(part.side, line)
         elif isinstance(part, Set):
             self.flags.add(part.flag)
+            self.events.append(("set", line, part.flag))
         elif isinstance(part, Clear):
             self.flags.discard(part.flag)
+            self.events.append(("clear", line, part.flag))
         elif isinstance(part, Break):
+            self.events.append(("break", line))
             raise Left
         elif isinstance(part, Stop):
+            self.events.append(("stop", line))
             raise Ended
 
     def pairs(self, side, line):
@@ -96,6 +110,11 @@ class Model:
         other = "right" if side == "left" else "left"
         for item in taken[side]:
             self.put.extend([item] * len(taken[other]))
+        many = {name: len(items) for name, items in taken.items()}
+        self.events.append(("pairs", line, side, self.passed["left"], self.passed["right"],
+                            many["left"], many["right"]))
+        for name in many:
+            self.passed[name] += many[name]
         self.met.clear()
 
     def head(self, side, line):
@@ -104,6 +123,11 @@ class Model:
         return self.rows[side][0]
 
     def test(self, test, line):
+        truth = self.truth(test, line)
+        self.events.append(("test", line, truth))
+        return truth
+
+    def truth(self, test, line):
         for case in test.cases:
             truth = True
             for is_not, word in case:
@@ -119,9 +143,11 @@ class Model:
             return bool(self.rows[word])
         if word in ("less", "equal", "more"):
             left, right = self.head("left", line).rank, self.head("right", line).rank
+            self.compares += 1
             return {"less": left < right, "equal": left == right, "more": left > right}[word]
         if word.startswith("new "):
             rank = self.head(word.split()[1], line).rank
+            self.compares += 1
             return not self.put or self.put[-1].rank != rank
         return word in self.flags
 
@@ -145,10 +171,22 @@ class Model:
 
     def moment(self, line):
         key = (line, tuple(sorted(self.flags)), self.put[-1].rank if self.put else None)
+        self.see(line)
         if key in self.met:
             raise Ended(("endless", line))
         self.met.add(key)
-        self.moments.append(self.stand(line))
+
+    def see(self, line):
+        """Keeps what a play tells of this moment; no line behind a fall."""
+        stand = None
+        if line is not None:
+            stand = self.stand(line)
+            self.moments.append(stand)
+        self.seen.append({
+            "stand": stand, "put": list(self.put), "flags": tuple(sorted(self.flags)),
+            "cursors": (self.passed["left"], self.passed["right"]), "compares": self.compares,
+            "over": line in (None, self.end),
+        })
 
 
 WORDS = ("left", "right", "less", "equal", "more", "new left", "new right", "f", "g")

@@ -26,8 +26,26 @@ CLASSES = {
     "walks": {"Walk": {"__init__": "parts", "read": "text", "__str__": "", "__len__": "",
                        "__getitem__": "at", "lines": "", "__eq__": "other", "__neg__": "",
                        "__add__": "other", "__call__": "left right", "sample": "name"}},
+    "plays": {"Play": {"__init__": "walk left right", "do": "", "run": "most", "events": "", "undo": "count",
+                       "trial": "", "attempt": "deed"}},
+    "claims": {"Claim": {"__init__": "word", "__str__": "", "__eq__": "other", "turned": "",
+                         "mark": "stand mark event", "ends": "stand"}},
+    "verdicts": {
+        "Verdict": {"__eq__": "other", "__bool__": ""}, "Rows": {"__eq__": "other", "__bool__": ""},
+        "Holds": {"__init__": "table", "__eq__": "other", "__bool__": ""},
+        "Alike": {"__init__": "table", "__eq__": "other", "__bool__": ""},
+        "Breaks": {"__init__": "left right", "__eq__": "other", "__bool__": ""},
+        "Parted": {"__init__": "left right", "__eq__": "other", "__bool__": ""},
+    },
 }
-FUNCTIONS = {"first_stands": "walk", "is_stand": "walk value", "moves": "walk stand", "stands": "walk"}
+PROPERTIES = {
+    "parts": {name: "size" for name in ("Put", "Step", "Pairs", "Set", "Clear", "Break", "Stop", "If", "While")},
+    "walks": {"Walk": "flags"},
+    "plays": {"Play": "put cursors compares flags over fall stand"},
+}
+FUNCTIONS = {
+    "stands": {"first_stands": "walk", "is_stand": "walk value", "moves": "walk stand", "stands": "walk"},
+}
 
 
 def arguments_of(made):
@@ -46,19 +64,26 @@ class InterfaceTests(unittest.TestCase):
                     self.assertEqual(arguments_of(getattr(made, method)), arguments.split(), method)
 
     def test_functions(self):
-        module = import_module("twoheads.stands")
-        for name, arguments in FUNCTIONS.items():
-            made = getattr(module, name)
-            self.assertEqual(made.__module__, module.__name__)
-            self.assertEqual(arguments_of(made), arguments.split())
+        for file, functions in FUNCTIONS.items():
+            module = import_module(f"twoheads.{file}")
+            for name, arguments in functions.items():
+                made = getattr(module, name)
+                self.assertEqual(made.__module__, module.__name__)
+                self.assertEqual(arguments_of(made), arguments.split())
+
+    def test_properties(self):
+        for file, classes in PROPERTIES.items():
+            for name, properties in classes.items():
+                for told in properties.split():
+                    self.assertIsInstance(vars(getattr(import_module(f"twoheads.{file}"), name))[told], property)
 
     def test_kinds_of_methods(self):
         walks, rows, asking = [import_module(f"twoheads.{name}") for name in ("walks", "rows", "asking")]
         for made, name in ((walks.Walk, "read"), (rows.Row, "of"), (asking.Test, "read")):
             self.assertIsInstance(vars(made)[name], classmethod)
         self.assertIsInstance(vars(walks.Walk)["sample"], staticmethod)
-        self.assertIsInstance(vars(walks.Walk)["flags"], property)
-        for made in (walks.Walk.lines, rows.Row.blocks, import_module("twoheads.stands").moves):
+        for made in (walks.Walk.lines, rows.Row.blocks, import_module("twoheads.stands").moves,
+                     import_module("twoheads.plays").Play.events):
             self.assertTrue(inspect.isgeneratorfunction(made))
 
 

@@ -38,6 +38,7 @@ STATEMENTS = (
     ast.Raise, ast.Delete, ast.With, ast.Try, ast.Expr, ast.FunctionDef, ast.ClassDef,
     ast.ImportFrom,
 )
+LIBRARY = {"heapq": {"heappush", "heappop"}, "math": {"lcm"}}
 FUNCTION_LINES = 40
 
 
@@ -94,7 +95,11 @@ class LanguageTests(unittest.TestCase):
         for _, tree in self.each():
             for node in ast.walk(tree):
                 self.assertNotIsInstance(node, ast.Import)
-                if isinstance(node, ast.ImportFrom):
+                if isinstance(node, ast.ImportFrom) and node.module in LIBRARY:
+                    self.assertLessEqual({alias.name for alias in node.names}, LIBRARY[node.module])
+                    self.assertFalse([alias for alias in node.names if alias.asname])
+                    self.only_called(tree, {alias.name for alias in node.names})
+                elif isinstance(node, ast.ImportFrom):
                     self.assertEqual(node.level, 0)
                     self.assertTrue(node.module.startswith("twoheads."))
                     home = tree_of(PACKAGE / (node.module.split(".")[1] + ".py"))
@@ -104,11 +109,22 @@ class LanguageTests(unittest.TestCase):
                         self.assertIsNone(alias.asname)
                         self.assertIn(alias.name, defined)
 
+    def only_called(self, tree, names):
+        """Checks that names of the library are called with arguments by position, and nothing else."""
+        called = []
+        for node in ast.walk(tree):
+            if isinstance(node, ast.Call) and isinstance(node.func, ast.Name) and node.func.id in names:
+                self.assertFalse(node.keywords)
+                called.append(node.func)
+        told = [node for node in ast.walk(tree) if isinstance(node, ast.Name) and node.id in names]
+        self.assertEqual(len(told), len(called))
+
     def test_no_import_goes_round(self):
         ahead = {}
         for path, tree in self.each():
             ahead[path.stem] = {
-                n.module.split(".")[1] for n in tree.body if isinstance(n, ast.ImportFrom)
+                n.module.split(".")[1] for n in tree.body
+                if isinstance(n, ast.ImportFrom) and n.module not in LIBRARY
             }
         while ahead:
             free = [name for name in ahead if not ahead[name]]
@@ -196,7 +212,7 @@ class LanguageTests(unittest.TestCase):
                     names.append(node.name)
                     if any(isinstance(n, ast.Yield) for n in ast.walk(node)):
                         generators.append(node.name)
-        self.assertEqual(sorted(generators), ["blocks", "lines", "moves"])
+        self.assertEqual(sorted(generators), ["blocks", "events", "lines", "moves"])
         for name in generators:
             self.assertEqual(names.count(name), 1)
 

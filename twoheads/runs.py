@@ -1,18 +1,20 @@
 """Runs of a walk on two rows."""
 
-from twoheads.errors import Endless, Unlike
+from twoheads.errors import Behind, Endless, Unlike
 from twoheads.parts import Branch
 from twoheads.views import View, with_flag, without_flag
+from twoheads.words import NEWS, ORDERS
 
 
 class Run:
-    """A run: where it is, and the list of the items that it has put."""
+    """A run on two lists of items: where it is, what it has put, and how often it compared."""
 
     def __init__(self, walk, left, right):
         self.walk = walk
-        self.ahead = {"left": left.listed(), "right": right.listed()}
+        self.ahead = {"left": list(left), "right": list(right)}
         self.cursor = {"left": 0, "right": 0}
         self.output = []
+        self.compared = 0
         self.raised = ()
         self.line = 0
         # The moments since the last item was passed: one that comes again never ends.
@@ -39,18 +41,31 @@ class Run:
         return self.output
 
     def do_line(self):
-        """Does the next statement."""
+        """Does the next statement and returns its event; raises Endless instead of going round."""
         view = self.view()
         self.meet(view)
+        return self.do_seen(view)
+
+    def do_seen(self, view):
+        """Does the next statement, at which the walk sees this, and returns its event."""
         line = self.line
         part = self.walk[line]
         if_true, if_false = self.walk.jumps[line]
         if isinstance(part, Branch):
-            self.line = if_true if part.test(lambda word: view.answer(line, word)) else if_false
-        else:
-            deed = DEEDS[part.word]
-            deed(self, part, view)
-            self.line = if_true
+            truth = part.test(lambda word: self.asked(view, word))
+            self.line = if_true if truth else if_false
+            return ("test", line, truth)
+        deed = DEEDS[part.word]
+        event = deed(self, part, view)
+        self.line = if_true
+        return event
+
+    def asked(self, view, word):
+        """Whether a word of a test is true; counts it if it is a comparison."""
+        truth = view.answer(self.line, word)
+        if word in ORDERS or word in NEWS:
+            self.compared = self.compared + 1
+        return truth
 
     def meet(self, view):
         """Raises Endless at a moment that was there before, since an item was passed."""
@@ -70,6 +85,18 @@ class Run:
         self.met = {}
 
 
+def told_event(run):
+    """Does the next statement of a run; returns its event, or the fall there."""
+    try:
+        return run.do_line()
+    except Behind as fall:
+        return ("behind", fall.line, fall.side)
+    except Unlike as fall:
+        return ("unlike", fall.line)
+    except Endless as fall:
+        return ("endless", fall.line)
+
+
 def rank_of(item):
     """The rank of an item, or None."""
     if item is None:
@@ -79,14 +106,19 @@ def rank_of(item):
 
 def do_put(run, part, view):
     """Puts the head of a side."""
-    view.need(run.line, part.side)
-    run.output.append(run.head_at(part.side))
+    side = part.side
+    view.need(run.line, side)
+    run.output.append(run.head_at(side))
+    return ("put", run.line, side, run.cursor[side])
 
 
 def do_step(run, part, view):
     """Passes the head of a side."""
-    view.need(run.line, part.side)
-    run.move(part.side, 1)
+    side = part.side
+    view.need(run.line, side)
+    passed = run.cursor[side]
+    run.move(side, 1)
+    return ("step", run.line, side, passed)
 
 
 def do_pairs(run, part, view):
@@ -96,26 +128,31 @@ def do_pairs(run, part, view):
         raise Unlike(run.line)
     of_left = run.doubles("left", view.left)
     of_right = run.doubles("right", view.left)
+    i, j, m, n = run.cursor["left"], run.cursor["right"], len(of_left), len(of_right)
     if part.side == "left":
         run.output.extend([item for item in of_left for _ in of_right])
     else:
         run.output.extend([item for item in of_right for _ in of_left])
-    run.move("left", len(of_left))
-    run.move("right", len(of_right))
+    run.move("left", m)
+    run.move("right", n)
+    return ("pairs", run.line, part.side, i, j, m, n)
 
 
 def do_set(run, part, view):
     """Sets a flag."""
     run.raised = with_flag(view.raised, part.flag)
+    return ("set", run.line, part.flag)
 
 
 def do_clear(run, part, view):
     """Clears a flag."""
     run.raised = without_flag(view.raised, part.flag)
+    return ("clear", run.line, part.flag)
 
 
 def do_jump(run, part, view):
-    """Does nothing: where `break` and `stop` lead is told by the jumps of the walk."""
+    """Changes nothing: where `break` and `stop` lead is told by the jumps of the walk."""
+    return (part.word, run.line)
 
 
 DEEDS = {

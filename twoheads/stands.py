@@ -3,6 +3,7 @@
 from twoheads.errors import Behind
 from twoheads.items import is_number
 from twoheads.views import View, order_of, with_flag, without_flag
+from twoheads.words import SIDES
 
 # Ranks that show each word for the heads, and last items in all places around them: there
 # is room between any two of them, so new heads can come into each place, too.
@@ -44,16 +45,32 @@ def moves(walk, stand):
 
 def stands(walk):
     """The ascending list of all stands that come about."""
+    return sorted(list(graph_of(walk)))
+
+
+def graph_of(walk):
+    """A dict from each stand that comes about to the list of its moves."""
+    graph = {}
     waiting = first_stands(walk)
-    met = {stand: True for stand in waiting}
     while waiting:
         stand = waiting.pop()
-        for _, behind in moves_at(walk, stand):
-            for after in behind:
-                if after not in met:
-                    met[after] = True
-                    waiting.append(after)
-    return sorted(list(met))
+        if stand not in graph:
+            graph[stand] = moves_at(walk, stand)
+            for _, behind in graph[stand]:
+                waiting.extend(behind)
+    return graph
+
+
+def last_in(stand, side):
+    """The word of a stand for the last item beside the head of a side."""
+    if side == "left":
+        return stand[3]
+    return stand[4]
+
+
+def heads_in(stand):
+    """How many rows have heads at a stand."""
+    return len([side for side in SIDES if last_in(stand, side) != "-"])
 
 
 def heads_word(left, right):

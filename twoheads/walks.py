@@ -74,4 +74,4 @@ class Walk:
         return Walk(*parts)
 
     def __call__(self, left, right):
-        return Run(self, left, right).to_end()
+        return Run(self, left.listed(), right.listed()).to_end()
