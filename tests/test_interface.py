@@ -37,14 +37,24 @@ CLASSES = {
         "Breaks": {"__init__": "left right", "__eq__": "other", "__bool__": ""},
         "Parted": {"__init__": "left right", "__eq__": "other", "__bool__": ""},
     },
+    "books": {"Book": {"__init__": "walk", "__call__": "mode m n more_left more_right", "__getitem__": "at",
+                       "entries": ""}},
+    "tallies": {"Tally": {"__init__": "a b c e", "__call__": "m n", "__eq__": "other", "__add__": "other",
+                          "__sub__": "other", "__mul__": "other", "__rmul__": "other", "__neg__": "",
+                          "under": "other", "usual": "name"}},
 }
 PROPERTIES = {
     "parts": {name: "size" for name in ("Put", "Step", "Pairs", "Set", "Clear", "Break", "Stop", "If", "While")},
     "walks": {"Walk": "flags"},
     "plays": {"Play": "put cursors compares flags over fall stand"},
+    "books": {"Book": "lead cycle reach"},
+    "tallies": {"Tally": "label"},
 }
 FUNCTIONS = {
     "stands": {"first_stands": "walk", "is_stand": "walk value", "moves": "walk stand", "stands": "walk"},
+    "checks": {"check": "walk claim", "holds": "walk claim table", "breaks": "walk claim left right"},
+    "fits": {"need_fit": "walk", "skew": "walk"},
+    "tallies": {"tally_of": "walk"},
 }
 
 
@@ -81,7 +91,8 @@ class InterfaceTests(unittest.TestCase):
         walks, rows, asking = [import_module(f"twoheads.{name}") for name in ("walks", "rows", "asking")]
         for made, name in ((walks.Walk, "read"), (rows.Row, "of"), (asking.Test, "read")):
             self.assertIsInstance(vars(made)[name], classmethod)
-        self.assertIsInstance(vars(walks.Walk)["sample"], staticmethod)
+        for made, name in ((walks.Walk, "sample"), (import_module("twoheads.tallies").Tally, "usual")):
+            self.assertIsInstance(vars(made)[name], staticmethod)
         for made in (walks.Walk.lines, rows.Row.blocks, import_module("twoheads.stands").moves,
                      import_module("twoheads.plays").Play.events):
             self.assertTrue(inspect.isgeneratorfunction(made))

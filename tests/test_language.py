@@ -39,6 +39,7 @@ STATEMENTS = (
     ast.ImportFrom,
 )
 LIBRARY = {"heapq": {"heappush", "heappop"}, "math": {"lcm"}}
+GENERATORS = ["blocks", "events", "lines", "moves"]
 FUNCTION_LINES = 40
 
 
@@ -55,6 +56,14 @@ def bound_names(tree):
             yield node.arg
         elif isinstance(node, ast.ExceptHandler) and node.name:
             yield node.name
+
+
+def is_quiet(node):
+    """Whether a function is a property or an operator that changes nothing."""
+    if [told for told in node.decorator_list if isinstance(told, ast.Name) and told.id == "property"]:
+        return True
+    word = node.name.strip("_")
+    return node.name.startswith("__") and word not in ("init", "call", "setitem", "enter", "exit") and word[0] != "i"
 
 
 def without_docstrings(source):
@@ -177,6 +186,29 @@ class LanguageTests(unittest.TestCase):
             reads = [n for n in ast.walk(tree) if isinstance(n, ast.Name) and n.id == "_"]
             self.assertFalse([n for n in reads if not isinstance(n.ctx, ast.Store)])
 
+    def test_what_is_reversed(self):
+        for _, tree in self.each():
+            for node in ast.walk(tree):
+                if isinstance(node, ast.Call) and isinstance(node.func, ast.Name) and node.func.id == "reversed":
+                    self.assertIsInstance(node.args[0], ast.Call)
+                    self.assertIn(node.args[0].func.id, ("list", "tuple", "sorted", "range"))
+
+    def test_generators_are_iterated_on_the_spot(self):
+        for _, tree in self.each():
+            loops = [node.iter for node in ast.walk(tree) if isinstance(node, (ast.For, ast.comprehension))]
+            for node in ast.walk(tree):
+                if isinstance(node, ast.Call) and isinstance(node.func, (ast.Name, ast.Attribute)):
+                    name = node.func.id if isinstance(node.func, ast.Name) else node.func.attr
+                    if name in GENERATORS:
+                        self.assertIn(node, loops)
+
+    def test_properties_and_operators_change_nothing(self):
+        for _, tree in self.each():
+            for node in ast.walk(tree):
+                if isinstance(node, ast.FunctionDef) and is_quiet(node):
+                    for inner in ast.walk(node):
+                        self.assertFalse(isinstance(inner, ast.Attribute) and isinstance(inner.ctx, ast.Store), node.name)
+
     def test_words(self):
         for path, _ in self.each():
             self.assertIsNone(BARRED.search(without_docstrings(path.read_text())))
@@ -212,7 +244,7 @@ class LanguageTests(unittest.TestCase):
                     names.append(node.name)
                     if any(isinstance(n, ast.Yield) for n in ast.walk(node)):
                         generators.append(node.name)
-        self.assertEqual(sorted(generators), ["blocks", "events", "lines", "moves"])
+        self.assertEqual(sorted(generators), GENERATORS)
         for name in generators:
             self.assertEqual(names.count(name), 1)
 
