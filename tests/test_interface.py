@@ -42,6 +42,12 @@ CLASSES = {
     "tallies": {"Tally": {"__init__": "a b c e", "__call__": "m n", "__eq__": "other", "__add__": "other",
                           "__sub__": "other", "__mul__": "other", "__rmul__": "other", "__neg__": "",
                           "under": "other", "usual": "name"}},
+    "bounds": {"Bound": {"__bool__": ""}, "Bounded": {"__init__": "c heights left right", "__bool__": ""},
+               "Growing": {"__init__": "ring gain", "__bool__": ""}},
+    "chains": {"Chain": {"__init__": "first walks", "__len__": "", "__call__": "rows", "longer": "walk", "tally": "numbers",
+                         "steps": "rows"}},
+    "desk": {"Desk": {"__init__": "walk", "__getitem__": "at", "__setitem__": "at worth", "__iadd__": "other", "edit": "edit",
+                      "back": "count", "ask": "line", "run": "lines", "set_limit": "value", "trial": "", "attempt": "deed"}},
 }
 PROPERTIES = {
     "parts": {name: "size" for name in ("Put", "Step", "Pairs", "Set", "Clear", "Break", "Stop", "If", "While")},
@@ -49,13 +55,20 @@ PROPERTIES = {
     "plays": {"Play": "put cursors compares flags over fall stand"},
     "books": {"Book": "lead cycle reach"},
     "tallies": {"Tally": "label"},
+    "desk": {"Desk": "present limit"},
 }
 FUNCTIONS = {
     "stands": {"first_stands": "walk", "is_stand": "walk value", "moves": "walk stand", "stands": "walk"},
     "checks": {"check": "walk claim", "holds": "walk claim table", "breaks": "walk claim left right"},
     "fits": {"need_fit": "walk", "skew": "walk"},
     "tallies": {"tally_of": "walk"},
+    "alike": {"alike": "one other", "shows_alike": "one other table", "shows_parted": "one other left right"},
+    "bounds": {"bound": "walk count a b", "is_bounded": "walk count a b c heights", "above": "walk count a b c"},
+    "idle": {"idle": "walk", "outcome_rows": "walk line truth"},
+    "edits": {"edits": "walk", "edited": "walk edit", "mends": "walk claims like"},
+    "modes": {"classes": "walk", "parting": "walk one other"},
 }
+DEFAULTS = {("idle", "outcome_rows"): {"truth": None}, ("edits", "mends"): {"like": None}}
 
 
 def arguments_of(made):
@@ -94,8 +107,19 @@ class InterfaceTests(unittest.TestCase):
         for made, name in ((walks.Walk, "sample"), (import_module("twoheads.tallies").Tally, "usual")):
             self.assertIsInstance(vars(made)[name], staticmethod)
         for made in (walks.Walk.lines, rows.Row.blocks, import_module("twoheads.stands").moves,
-                     import_module("twoheads.plays").Play.events):
+                     import_module("twoheads.plays").Play.events, import_module("twoheads.chains").Chain.steps):
             self.assertTrue(inspect.isgeneratorfunction(made))
+
+    def test_defaults(self):
+        for (file, name), wanted in DEFAULTS.items():
+            made = getattr(import_module(f"twoheads.{file}"), name)
+            found = {told.name: told.default for told in inspect.signature(made).parameters.values()
+                     if told.default is not inspect.Parameter.empty}
+            self.assertEqual(found, wanted)
+        self.assertEqual(inspect.signature(import_module("twoheads.edits").mends).parameters["like"].kind, inspect.Parameter.KEYWORD_ONLY)
+        self.assertEqual(inspect.signature(import_module("twoheads.desk").Desk.back).parameters["count"].default, 1)
+        self.assertIsNotNone(import_module("twoheads.desk").Desk.limit.fset)
+        self.assertIsNone(import_module("twoheads.desk").Desk.present.fset)
 
 
 if __name__ == "__main__":

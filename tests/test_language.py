@@ -39,8 +39,9 @@ STATEMENTS = (
     ast.ImportFrom,
 )
 LIBRARY = {"heapq": {"heappush", "heappop"}, "math": {"lcm"}}
-GENERATORS = ["blocks", "events", "lines", "moves"]
+GENERATORS = ["blocks", "events", "lines", "moves", "steps"]
 FUNCTION_LINES = 40
+CHANGING = set("append clear extend insert pop remove reverse setdefault update".split())
 
 
 def tree_of(path):
@@ -62,6 +63,8 @@ def is_quiet(node):
     """Whether a function is a property or an operator that changes nothing."""
     if [told for told in node.decorator_list if isinstance(told, ast.Name) and told.id == "property"]:
         return True
+    if [told for told in node.decorator_list if isinstance(told, ast.Attribute)]:
+        return False  # A setter.
     word = node.name.strip("_")
     return node.name.startswith("__") and word not in ("init", "call", "setitem", "enter", "exit") and word[0] != "i"
 
@@ -161,6 +164,26 @@ class LanguageTests(unittest.TestCase):
             assigned = [t.id for n in tree.body if isinstance(n, ast.Assign) for t in n.targets]
             self.assertEqual(sorted(inner), sorted(assigned))
 
+    def test_stars(self):
+        """Behind a star in a call stand plain names only."""
+        for _, tree in self.each():
+            for node in ast.walk(tree):
+                if isinstance(node, ast.Call):
+                    for told in node.args:
+                        if isinstance(told, ast.Starred):
+                            self.assertIsInstance(told.value, ast.Name)
+
+    def test_what_loops_go_over_stays(self):
+        """Nothing is put into or taken out of what a loop goes over by name."""
+        for _, tree in self.each():
+            for loop in [node for node in ast.walk(tree) if isinstance(node, ast.For)]:
+                over = {ast.unparse(node) for node in ast.walk(loop.iter) if isinstance(node, (ast.Name, ast.Attribute))}
+                for node in [inner for row in loop.body for inner in ast.walk(row)]:
+                    if isinstance(node, ast.Call) and isinstance(node.func, ast.Attribute) and node.func.attr in CHANGING:
+                        self.assertNotIn(ast.unparse(node.func.value), over)
+                    if isinstance(node, ast.Subscript) and isinstance(node.ctx, (ast.Store, ast.Del)):
+                        self.assertNotIn(ast.unparse(node.value), over)
+
     def test_statements_and_expressions(self):
         barred = (
             ast.GeneratorExp, ast.AugAssign, ast.AnnAssign, ast.Global, ast.NamedExpr, ast.Div,
@@ -218,6 +241,7 @@ class LanguageTests(unittest.TestCase):
         for _, tree in self.each():
             for node in ast.walk(tree):
                 if isinstance(node, ast.ClassDef):
+                    self.methods_once(node)
                     methods |= {n.name for n in node.body if isinstance(n, ast.FunctionDef)}
                     values |= {n.targets[0].id for n in node.body if isinstance(n, ast.Assign)}
                 if isinstance(node, ast.Attribute) and isinstance(node.ctx, ast.Store):
@@ -234,7 +258,16 @@ class LanguageTests(unittest.TestCase):
                 if isinstance(node, ast.Call) and isinstance(node.func, ast.Attribute):
                     self.assertIn(node.func.attr, methods | METHODS | {"test"})
                 if isinstance(node, ast.Attribute) and isinstance(node.ctx, ast.Load):
-                    self.assertIn(node.attr, methods | METHODS | attributes | values)
+                    self.assertIn(node.attr, methods | METHODS | attributes | values | {"setter"})
+
+    def methods_once(self, made):
+        """Checks that a class defines each method once, but for the setter behind its property."""
+        told = [n for n in made.body if isinstance(n, ast.FunctionDef)]
+        setters = [d for n in told for d in n.decorator_list if isinstance(d, ast.Attribute)]
+        names = [n.name for n in told]
+        self.assertEqual(len(names), len(set(names)) + len(setters))
+        for setter in setters:
+            self.assertEqual((setter.attr, names.count(setter.value.id)), ("setter", 2))
 
     def test_generators_have_names_of_their_own(self):
         names, generators = [], []

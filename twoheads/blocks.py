@@ -33,21 +33,26 @@ def half_of(m, n, more_left, more_right):
 def to_next(deeds, at, many):
     """Goes on to the next step or pairs: its word, the situation behind it, and how many are put.
 
-    The word is empty if the run ends first. So many as told were put before.
+    The word is empty if the run ends first, and "wrong", with None as the situation, if it never
+    comes so far. So many as told were put before.
     """
-    while at in deeds:
+    # More quiet deeds than there are situations go round for ever.
+    for _ in range(len(deeds) + 1):
+        if at not in deeds:
+            return "wrong" if at is None else "", at, many
         word, at = deeds[at]
         if word == "put":
             many = many + 1
         elif word != "":
             return word, at, many
-    return "", at, many
+    return "wrong", None, many
 
 
 def blocks_from(halves, entry, most):
     """A dict from each block that fits an entry to what comes of it, as far as m and n go.
 
-    Each half is gone through just once: blocks that are alike so far differ only behind it.
+    None comes of a block in which something is wrong. Each half is gone through just once:
+    blocks that are alike so far differ only behind it.
     """
     mode, left, right = entry
     found = {}
@@ -68,7 +73,7 @@ def add_alone(halves, found, at, so_far, most):
         _, at, many = to_next(halves.deeds, at, many)
         for own_more in EITHER:
             block = (own, n, own_more, more) if half == "left" else (m, own, more, own_more)
-            found[block] = (many, mode_behind(halves.walk, at, own_more or more))
+            found[block] = outcome(halves.walk, at, many, own_more or more)
 
 
 def add_both(halves, found, at, most):
@@ -97,4 +102,11 @@ def add_rest(halves, found, deed, so_far, most):
         for other in range(n + 1, most + 1):
             put = many + (own - m) * (other - n) if word == "pairs" else many
             for left, right in mores:
-                found[own, other, left, right] = (put, mode_behind(halves.walk, at, left or right))
+                found[own, other, left, right] = outcome(halves.walk, at, put, left or right)
+
+
+def outcome(walk, at, many, is_more):
+    """What comes of a block behind which a walk is in a situation; None if that is None."""
+    if at is None:
+        return None
+    return many, mode_behind(walk, at, is_more)

@@ -3,11 +3,12 @@
 from math import lcm
 
 from twoheads.blocks import done_block
-from twoheads.errors import BadPlace
+from twoheads.errors import BadPlace, TooLarge
 from twoheads.fits import fit_halves
 from twoheads.halves import measured
 
 GREATEST = 12
+LARGEST = 24
 
 
 class Book:
@@ -55,4 +56,26 @@ class Book:
     @property
     def reach(self):
         """The number of items up to which blocks show what greater ones do."""
-        return 4 * self.longest + 8 * self.common
+        return reach_of(self.longest, self.common)
+
+
+def reach_of(lead, cycle):
+    """The reach that starts and rings with these measures have."""
+    return 4 * lead + 8 * cycle
+
+
+def small_reach(book):
+    """The reach of a walk; raises TooLarge if there are too many blocks up to it."""
+    return need_small(book.reach)
+
+
+def joint_reach(one, other):
+    """The reach of two walks; raises TooLarge if there are too many blocks up to it."""
+    return need_small(reach_of(max(one.lead, other.lead), lcm(one.cycle, other.cycle)))
+
+
+def need_small(reach):
+    """A reach that is not too great to look at all blocks up to it."""
+    if reach > LARGEST:
+        raise TooLarge(LARGEST)
+    return reach

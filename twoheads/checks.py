@@ -18,9 +18,9 @@ def check(walk, claim):
     if asked.kind == "ending":
         marks = quiet_marks(graph)
         table = list(marks.items())
-        wrong = [(search.taken[stand, 0][0], (stand, 0), None) for stand in marks if marks[stand] is None]
+        wrong = [(search.ways.length((stand, 0)), (stand, 0), None) for stand in marks if marks[stand] is None]
     else:
-        table = list(search.taken)
+        table = search.rows()
         wrong = search.wrong
     if not wrong:
         return Holds(tuple(sorted(table)))

@@ -2,7 +2,7 @@
 
 from twoheads.claims import Claim
 from twoheads.errors import Unfit
-from twoheads.halves import Halves, measured
+from twoheads.halves import FIRST_ENTRIES, Halves, measured
 from twoheads.searches import quiet_marks
 from twoheads.stands import graph_of
 
@@ -31,7 +31,7 @@ def level_halves(walk):
     for word in ("inside", "ending", "level"):
         if not is_kept(graph, word):
             raise Unfit(word)
-    return Halves(walk)
+    return Halves(walk, FIRST_ENTRIES)
 
 
 def is_kept(graph, word):

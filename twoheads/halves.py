@@ -22,26 +22,28 @@ FORMS = {
     ("right", True, True): ("more", "below", "equal"),
 }
 EITHER = (False, True)
+FIRST_ENTRIES = (((0, ()), True, True), ((0, ()), True, False), ((0, ()), False, True))
 
 
 class Halves:
-    """The halves that come about in all blocks of the reached entries of a walk.
+    """The halves that come about in all blocks of some entries, and of those behind them.
 
-    The walk keeps `inside`, `ending` and `level`. `deeds` has, for each situation that comes
-    about, a pair of what is done there and the situation behind it: the side for a step, else
-    "put" or "pairs", and "" for what is quiet. Situations at the end of the walk are missing.
+    `deeds` has, for each situation that comes about, a pair of what is done there and the
+    situation behind it: the side for a step, else "put" or "pairs", and "" for what is quiet.
+    Situations at the end of the walk are missing. A walk that keeps `inside` and `level` does
+    nothing else from the first entries on; from others it may fall, or put or step an item of
+    another value: that is "wrong", and None is behind it.
     `begun` has the situations with which halves begin, `reached` the entries.
     """
 
-    def __init__(self, walk):
+    def __init__(self, walk, entries):
         self.walk = walk
         self.deeds = {}
         self.begun = {}
         self.reached = {}
         self.waiting = []
-        self.enter((0, ()), True, True)
-        self.enter((0, ()), True, False)
-        self.enter((0, ()), False, True)
+        for mode, left, right in entries:
+            self.enter(mode, left, right)
         while self.waiting:
             self.follow(self.waiting.pop())
 
@@ -69,6 +71,8 @@ class Halves:
         while at not in self.deeds and at[2] < len(self.walk):
             word, behind = deed_at(self.walk, at)
             self.deeds[at] = (word, behind)
+            if word == "wrong":
+                return
             if word == "pairs":
                 self.leave(behind, EITHER, EITHER)
                 return
@@ -101,6 +105,8 @@ def deed_at(walk, at):
     """What is done in a situation, and the situation behind it in the same half."""
     half, more, line, flags, is_put = at
     event, behind = moves_at(walk, (line, flags, *FORMS[half, more, is_put]))[0]
+    if not behind or (event[0] in ("put", "step") and half not in ("both", event[2])):
+        return "wrong", None
     after = behind[0]
     if event[0] == "put":
         return "put", (half, more, after[0], after[1], True)

@@ -1,9 +1,8 @@
 """Searches for all rows (stand, mark) that come about, by the shortest ways."""
 
-from heapq import heappop, heappush
-
-from twoheads.spreads import Spread
+from twoheads.spreads import spread_on
 from twoheads.stands import first_stands, heads_in, last_in
+from twoheads.ways import Ways
 
 QUIET = ("test", "put", "set", "clear", "break", "stop")
 
@@ -12,42 +11,24 @@ class Search:
     """The rows (stand, mark) that come about, and the shortest ways to what breaks a claim.
 
     The length of a way is the number of items that have come into sight on it: two rows of
-    just these items are the shortest on which a run goes this way. `taken` has, for each row,
-    this length, the row before it and the event between them; `wrong` has triples (length,
-    row, event) for all events that break the claim, without an event for ends that do.
+    just these items are the shortest on which a run goes this way. `wrong` has triples
+    (length, row, event) for all events that break the claim, without an event for ends that do.
     """
 
     def __init__(self, walk, graph, claim):
-        self.waiting = []
-        self.offers = []
-        self.taken = {}
+        self.ways = Ways()
         self.wrong = []
         for stand in first_stands(walk):
-            self.offer(heads_in(stand), (stand, 0), None, None)
-        row = self.take()
+            self.ways.offer(heads_in(stand), (stand, 0), None, None)
+        row = self.ways.take()
         while row is not None:
             self.look(row, graph, claim)
-            row = self.take()
-
-    def offer(self, length, row, before, event):
-        """Keeps a way to a row until all shorter ways are done."""
-        heappush(self.waiting, (length, len(self.offers)))
-        self.offers.append((row, before, event))
-
-    def take(self):
-        """The next row by length, or None; it is taken just once."""
-        while self.waiting:
-            length, number = heappop(self.waiting)
-            row, before, event = self.offers[number]
-            if row not in self.taken:
-                self.taken[row] = (length, before, event)
-                return row
-        return None
+            row = self.ways.take()
 
     def look(self, row, graph, claim):
         """Offers all rows behind a row, and keeps what breaks the claim."""
         stand, mark = row
-        length = self.taken[row][0]
+        length = self.ways.length(row)
         if not graph[stand] and not claim.ends(stand):
             self.wrong.append((length, row, None))
         for event, behind in graph[stand]:
@@ -56,22 +37,34 @@ class Search:
                 self.wrong.append((length + doubles_in(event), row, event))
             else:
                 for after in behind:
-                    self.offer(length + sighted(event, after), (after, mark_behind), row, event)
+                    self.ways.offer(length + sighted(event, after), (after, mark_behind), row, event)
+
+    def rows(self):
+        """The list of the rows that come about."""
+        return list(self.ways.taken)
 
     def rows_on(self, row, event):
         """A pair of shortest rows on which a run comes to a row, and to the event there."""
-        way = []
-        _, before, led = self.taken[row]
-        while before is not None:
-            way.append((led, row[0]))
-            row = before
-            _, before, led = self.taken[row]
-        spread = Spread(row[0])
-        for moved, after in reversed(list(way)):
-            spread.go(moved, after)
+        first, way = self.ways.way_to(row)
+        spread = spread_on(first[0], [(moved, after) for moved, (after, _) in way])
         if event is not None and event[0] == "pairs":
             spread.double(event)
         return spread.ranked()
+
+
+def stand_ways(graph, first):
+    """The shortest ways from some first stands to all others, by the items that come into sight."""
+    ways = Ways()
+    for stand in first:
+        ways.offer(heads_in(stand), stand, None, None)
+    stand = ways.take()
+    while stand is not None:
+        length = ways.length(stand)
+        for event, behind in graph[stand]:
+            for after in behind:
+                ways.offer(length + sighted(event, after), after, stand, event)
+        stand = ways.take()
+    return ways
 
 
 def doubles_in(event):

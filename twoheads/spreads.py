@@ -83,3 +83,11 @@ class Spread:
         left = [ranks[point] for point in self.made["left"]]
         right = [ranks[point] for point in self.made["right"]]
         return tuple(left), tuple(right)
+
+
+def spread_on(stand, way):
+    """The spread of a way from a first stand on, told as pairs (event, stand behind it)."""
+    spread = Spread(stand)
+    for event, after in way:
+        spread.go(event, after)
+    return spread

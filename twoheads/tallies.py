@@ -1,11 +1,10 @@
 """Tallies: how often walks put a value, as a function of its numbers in both rows."""
 
 from twoheads.blocks import blocks_from
-from twoheads.books import Book
-from twoheads.errors import BadName, TooLarge
+from twoheads.books import Book, small_reach
+from twoheads.errors import BadName
 from twoheads.items import is_number
 
-LARGEST = 24
 USUAL = {
     "sum": (1, 1, 0, 0), "union": (1, 1, -1, 0), "both": (0, 0, 1, 0), "lacks": (1, 0, -1, 0),
     "xor": (1, 1, -2, 0), "join": (0, 0, 0, 1), "left": (1, 0, 0, 0), "right": (0, 1, 0, 0),
@@ -85,11 +84,10 @@ class Tally:
 def tally_of(walk):
     """The tally that a fit walk has, or None."""
     book = Book(walk)
-    if book.reach > LARGEST:
-        raise TooLarge(LARGEST)
+    reach = small_reach(book)
     tally = only_tally(book)
     for entry in book.entries():
-        found = blocks_from(book.halves, entry, book.reach)
+        found = blocks_from(book.halves, entry, reach)
         for (m, n, more_left, more_right), (many, behind) in found.items():
             if tally(m, n) != many:
                 return None
