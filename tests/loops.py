@@ -2,6 +2,7 @@
 
 from random import Random
 
+from model import Maker
 from twoheads.errors import BadWalk, Unfit
 from twoheads.fits import need_fit
 from twoheads.walks import Walk
@@ -81,5 +82,16 @@ def fit_walks(first, behind):
                 need_fit(walk)
                 found.append(walk)
         except Unfit:
+            pass
+    return found
+
+
+def walks_by_chance(first, behind, most=5):
+    """Loops, and walks that need not be fit, of some seeds; those of at most so many outermost statements."""
+    found = [walk for walk in [Loops(seed).walk() for seed in range(first, behind)] if walk is not None]
+    for seed in range(first, behind):
+        try:
+            found.append(Walk(*Maker(seed).block(0, False, most)))
+        except BadWalk:
             pass
     return found

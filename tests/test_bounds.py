@@ -2,13 +2,13 @@ import unittest
 from random import Random
 
 from helpers import ODD_VALUES, HeadsCase
-from loops import Loops
-from model import GREATEST, Maker
+from loops import walks_by_chance
+from model import GREATEST
 from pairs import NAMES, drawn_row, modelled, short_pairs
 from test_books import GREATEST_FIT
 from twoheads.bounds import Bound, Bounded, Growing, above, bound, is_bounded
 from twoheads.checks import check
-from twoheads.errors import BadName, BadWalk, Unfit
+from twoheads.errors import BadName, Unfit
 from twoheads.items import Item
 from twoheads.rows import Row
 from twoheads.stands import first_stands, moves, stands
@@ -51,17 +51,6 @@ def count_of(model, count):
 
 def excess(walk, count, a, b, left, right):
     return count_of(modelled(walk, left, right), count) - a * len(left) - b * len(right)
-
-
-def walks_by_chance(first, behind):
-    found = []
-    for seed in range(first, behind):
-        found.append(Loops(seed).walk())
-        try:
-            found.append(Walk(*Maker(seed).block(0, False, 5)))
-        except BadWalk:
-            pass
-    return [walk for walk in found if walk is not None]
 
 
 def has_pairs(walk):

@@ -3,8 +3,8 @@ from itertools import product
 
 from helpers import ODD_VALUES, HeadsCase
 from judge import WORDS, broken
-from loops import Loops
-from model import GREATEST, Maker
+from loops import walks_by_chance
+from model import GREATEST
 from pairs import ALL_LEFT, NAMES, modelled, ranks, short_pairs
 from test_books import GREATEST_FIT
 from test_fits import UNFIT
@@ -504,13 +504,7 @@ class WholeTests(HeadsCase):
 
     def walks(self):
         found = [Walk.sample(name) for name in NAMES] + [Walk.read(ALL_LEFT), Walk.read("step left"), Walk.read("while left\n  put left")]
-        found += [walk for walk in [Loops(seed).walk() for seed in range(900, 930)] if walk is not None]
-        for seed in range(900, 930):
-            try:
-                found.append(Walk(*Maker(seed).block(0, False, 4)))
-            except BadWalk:
-                pass
-        return found
+        return found + walks_by_chance(900, 930, 4)
 
     def rows_told(self, answer):
         """The two rows of ranks behind ` on ` in an answer."""

@@ -2,8 +2,8 @@ import unittest
 
 from helpers import ODD_VALUES, HeadsCase
 from judge import WORDS, broken
-from loops import Loops
-from model import GREATEST, Maker
+from loops import walks_by_chance
+from model import GREATEST
 from pairs import ALL_LEFT, NAMES, ranks, short_pairs
 from test_bounds import WIDE
 from test_fits import UNFIT
@@ -12,7 +12,7 @@ from twoheads.alike import alike
 from twoheads.checks import breaks, check
 from twoheads.claims import Claim
 from twoheads.edits import edited, edits, mends
-from twoheads.errors import BadName, BadWalk, HeadsError, NotNow, TooLarge, TooMany, Unfit
+from twoheads.errors import BadName, HeadsError, NotNow, TooLarge, TooMany, Unfit
 from twoheads.fits import need_fit
 from twoheads.rows import Row
 from twoheads.walks import Walk
@@ -38,16 +38,6 @@ elif left and right and not less or new right
   put right"""
 DEEP = "\n".join("  " * k + "if left" for k in range(5)) + "\n" + "  " * 5 + "step left\n" + "  " * 4 + "else\n" + "  " * 5 + "put right"
 RING = "while left and not right\n  step left"
-
-
-def walks_by_chance(first, behind):
-    found = [Loops(seed).walk() for seed in range(first, behind)]
-    for seed in range(first, behind):
-        try:
-            found.append(Walk(*Maker(seed).block(0, False, 4)))
-        except BadWalk:
-            pass
-    return [walk for walk in found if walk is not None]
 
 
 class EditsTests(HeadsCase):

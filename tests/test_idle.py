@@ -2,28 +2,17 @@ import unittest
 
 from helpers import HeadsCase
 from judge import is_dense
-from loops import Loops
-from model import GREATEST, Maker
+from loops import walks_by_chance
+from model import GREATEST
 from pairs import NAMES, modelled, short_pairs
 from test_books import GREATEST_FIT
 from test_bounds import WIDE
-from twoheads.errors import BadWalk
 from twoheads.idle import idle, outcome_rows
 from twoheads.stands import stands
 from twoheads.walks import Walk
 
 ROUNDS = ("while left\n  step left\n  if left\n    step left\n    if left\n      step left\n  if f and g\n    put right\n"
           "  elif f\n    set g\n    clear f\n  elif g\n    set f\n  else\n    set f")
-
-
-def walks_by_chance(first, behind):
-    found = [Loops(seed).walk() for seed in range(first, behind)]
-    for seed in range(first, behind):
-        try:
-            found.append(Walk(*Maker(seed).block(0, False, 5)))
-        except BadWalk:
-            pass
-    return [walk for walk in found if walk is not None]
 
 
 def is_test(walk, line):
