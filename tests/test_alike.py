@@ -14,6 +14,8 @@ from twoheads.edits import edited, edits
 from twoheads.errors import TooLarge, Unfit
 from twoheads.fits import need_fit
 from twoheads.items import Item
+from twoheads.outcomes import block_length
+from twoheads.pairings import rows_of_blocks
 from twoheads.rows import Row
 from twoheads.verdicts import Alike, Parted
 from twoheads.walks import Walk
@@ -214,6 +216,20 @@ class AlikeTests(HeadsCase):
         tail = "step left\n    step right\n    if left and right and {}\n      put left"
         self.parted(Walk.read(BOTH_HEADS + tail.format("less")), Walk.read(BOTH_HEADS + tail.format("f")), 4)
 
+    def test_more_behind_a_second_value(self):
+        text = ("while left\n  if right and more\n    step right\n  else\n    if f and new left and right and less\n      put left\n"
+                "    put left\n    step left\n    set f")
+        self.parted(Walk.read(text), Walk.read(ALL_LEFT), 3)
+        self.same_kinds(alike(Walk.read(ALL_LEFT), Walk.read(text)).paper, ((0, 1), (2,)))
+        self.same_kinds(alike(-Walk.read(text), -Walk.read(ALL_LEFT)).paper, ((2,), (0, 1)))
+
+    def test_lengths_of_blocks(self):
+        for entry in STARTS:
+            for block in fitting_blocks((None, *entry[2:]), 4):
+                self.assertEqual(block_length(block), len(sum(rows_of_blocks([block]), ())))
+        self.same_kinds(rows_of_blocks([(1, 2, True, True), (0, 1, True, False), (3, 0, True, False)]),
+                        ((0, 2, 2, 2, 3), (0, 0, 1)))
+
     def test_same_meaning(self):
         for name in NAMES:
             walk = Walk.sample(name)
@@ -331,7 +347,7 @@ class ShowsAlikeTests(HeadsCase):
     def walks(self):
         stop = Walk.read("while left and right\n  if less\n    step left\n  else\n    step right")
         return [(Walk.sample("sum"), Walk.read(OTHER_SUM)), (Walk.sample("union"), Walk.sample("union")),
-                (stop, Walk.read("stop")), (capped(3), capped(3)), (Walk.sample("join"), -Walk.sample("join"))]
+                (stop, Walk.read("stop")), (Walk.read("stop"), -stop), (capped(3), capped(3)), (Walk.sample("join"), -Walk.sample("join"))]
 
     def test_any_order(self):
         for one, other in self.walks():
@@ -389,6 +405,9 @@ class ShowsAlikeTests(HeadsCase):
             self.shows(False, one, other, [*table, (None, None, left, right)])
         for modes in ((FIRST, FIRST), (FIRST, None), (None, FIRST)):
             self.shows(False, one, other, [*table, (*modes, False, False)])
+        # The line behind the last one is none, though nothing is put there either.
+        for modes in (((len(one), ()), None), (None, (len(other), ()))):
+            self.shows(False, one, other, [*table, (*modes, True, True)])
         self.shows(True, one, other, [*table, (None, FIRST, True, False)])
         self.shows(True, one, other, [*table, (None, (0, ()), True, False), (None, (0, ()), False, True), (None, (0, ()), True, True)])
         self.shows(True, one, other, [*table, ((1, ()), None, True, True)])
@@ -426,6 +445,23 @@ class ShowsAlikeTests(HeadsCase):
             self.shows(True, one, other, [*table, *starts])
             self.shows(True, one, other, [*table, *starts, *behind])
             self.shows(False, one, other, [*table, *starts, *behind, *more])
+
+    def test_blocks_up_to_the_reach(self):
+        """An entry that goes wrong only from so many copies on is right just if these are more than the reach."""
+        base = "while left\n  if right and more\n    step right\n  else\n    step left"
+        for act in ("put left", "step right", "put right", "while left\n    set f"):
+            for many in range(2, 10 if act != "while left\n    set f" else 9):
+                guards = "  if left and not new left\n    step left\n" * (many - 2)
+                last = "  if left and not new left\n" + "\n".join("  " + row for row in ("  " + act).split("\n")) + "\n"
+                one = Walk.read("if f\n  put left\n  step left\n" + guards + last + base)
+                other = Walk.read("if f\n  put left\n" + base)
+                self.assertEqual(larger_reach(one, other), 8)
+                lines = [*range(3, 3 + 2 * many - 2, 2), len(one) - 4]
+                table = [*alike(one, other).paper, *[((line, ()), (2, ()), True, False) for line in lines]]
+                self.shows(True, one, other, table)
+                wrong = ((1, ()), (1, ()), True, False)
+                self.shows(many > 8, one, other, [*table, wrong])
+                self.shows(many > 8, -other, -one, [(two, told, right, left) for told, two, left, right in [*table, wrong]])
 
     def test_another_number(self):
         one = Walk.read("if f\n  if not right or not more\n    put left\n" + str(Walk.sample("lacks")))

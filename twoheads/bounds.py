@@ -55,7 +55,7 @@ def bound(walk, count, a, b):
 
 def countable_graph(walk, count):
     """The stands that come about, with their moves; raises an error if the count cannot be bounded."""
-    if not isinstance(count, str) or count not in COUNTS:
+    if count not in COUNTS:
         raise BadName(count)
     graph = graph_of(walk)
     if not is_kept(graph, "ending"):
@@ -109,20 +109,14 @@ def above(walk, count, a, b, c):
 
 
 def growing_way(walk, graph, heights, c):
-    """A first stand and a way from it to the end, with so many rounds that the excess is greater than c."""
+    """A first stand and a way from it on which the excess becomes greater than c.
+
+    The rows have no items behind it, so what is done there only adds to the count.
+    """
     scale = heights.scale
-    start = heights.ring[0]
-    first, to_ring = stand_ways(graph, first_stands(walk)).way_to(start)
-    from_ring = way_to_end(heights, graph)
+    first, to_ring = stand_ways(graph, first_stands(walk)).way_to(heights.ring[0])
     rounds = heights.ring_way()
-    lacking = c + 1 - scale.excess(first, to_ring + from_ring)
-    gain = scale.gain_on(start, rounds)
+    gain = scale.gain_on(heights.ring[0], rounds)
+    lacking = c + 1 + scale.heads_weight(first) - scale.gain_on(first, to_ring)
     many = max(0, (lacking + gain - 1) // gain)
-    return first, to_ring + rounds * many + from_ring
-
-
-def way_to_end(heights, graph):
-    """A way from the first stand of the ring to an end or a fall, with few items."""
-    ways = stand_ways(graph, [heights.ring[0]])
-    ends = [stand for stand in ways.taken if not heights.ways[stand]]
-    return ways.way_to(ends[0])[1]
+    return first, to_ring + rounds * many

@@ -57,11 +57,6 @@ class Scale:
             stand = after
         return total
 
-    def excess(self, first, way):
-        """The excess of a run that goes all the way from a first stand to its end or fall."""
-        last = way[-1][1] if way else first
-        return self.gain_on(first, way) + self.counted(last) - self.heads_weight(first)
-
 
 def comparisons(test, view, line):
     """How many comparisons a test asks where a walk sees this, up to its fall if it falls."""
