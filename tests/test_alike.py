@@ -446,6 +446,25 @@ class ShowsAlikeTests(HeadsCase):
             self.shows(True, one, other, [*table, *starts, *behind])
             self.shows(False, one, other, [*table, *starts, *behind, *more])
 
+    def test_items_of_another_value(self):
+        """Nothing but a put or step of a greater item is wrong, and only where both rows are ahead."""
+        base = "while left\n  if right and more\n    step right\n  else\n    step left"
+        told = {act: Walk.read(f"if f\n  if left and right and less\n    {act}\n{base}") for act in ("put left", "put right", "step left",
+                                                                                               "step right", "set f", "pairs left")}
+        for act, other_act, is_right in (("put left", "put left", True), ("put right", "put left", False), ("put right", "put right", False),
+                                         ("put left", "put right", False), ("set f", "set f", True), ("step left", "set f", True),
+                                         ("step right", "set f", False), ("set f", "step right", False), ("pairs left", "set f", False)):
+            one, other = told[act], told[other_act]
+            behind = [((line, flags), (other_line, other_flags), left, right) for line in (0, 3) for other_line in (0, 3)
+                      for flags in ((), ("f",)) for other_flags in ((), ("f",)) for left, right in ((True, True), (True, False), (False, True))
+                      if (line == 3 or not flags) and (other_line == 3 or not other_flags)]
+            table = [*alike(one, other).paper, *behind]
+            self.shows(True, one, other, table)
+            for left, right in ((True, False), (False, True)):
+                self.shows(True, one, other, [*table, ((1, ()), (1, ()), left, right)])
+            self.shows(is_right, one, other, [*table, ((1, ()), (1, ()), True, True)])
+            self.shows(is_right, -other, -one, [(two, mode, right, left) for mode, two, left, right in [*table, ((1, ()), (1, ()), True, True)]])
+
     def test_blocks_up_to_the_reach(self):
         """An entry that goes wrong only from so many copies on is right just if these are more than the reach."""
         base = "while left\n  if right and more\n    step right\n  else\n    step left"

@@ -8,7 +8,6 @@ from model import GREATEST
 from twoheads.blocks import blocks_from
 from twoheads.books import Book
 from twoheads.errors import BadPlace, Unfit
-from twoheads.items import Item
 from twoheads.plays import Play
 from twoheads.rows import Row
 from twoheads.walks import Walk
@@ -106,6 +105,8 @@ class BookTests(HeadsCase):
             ("if left\n  if not right or not more\n    put left\n    step left", 1, 1),
             ("while left and right and equal\n  step left\n  step right", 1, 1),
             ("while left and not right\n  step left\n  if left\n    step left\n    if left\n      step left", 0, 3),
+            ("while left and right\n  if less\n    step left\n  elif more\n    step right\n  else\n    step left\n"
+             "    if left and equal\n      step left\n      if left and equal\n        pairs left", 2, 1),
         ):
             book = book_of(text)
             self.assertEqual((book.lead, book.cycle, book.reach), (lead, cycle, 4 * lead + 8 * cycle), text)
