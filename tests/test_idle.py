@@ -159,6 +159,14 @@ class OutcomeRowsTests(HeadsCase):
         found = self.comes(5, walk, 5)
         self.assertEqual(sorted(set(found[0] + found[1])), [0, 1, 2, 3])
 
+    def test_rows_that_steps_end(self):
+        # Two items that stay are fewer than three, one of which is passed and ends its row.
+        walk = Walk.read("if left and right and equal\n" + "  set g\n" * 8 + "  set f\nelif left and right and less\n  step left\n"
+                         "  if not left\n    step right\n    if right\n      set f\nif f\n  stop")
+        self.assertEqual(self.comes(2, walk, 17), ((0,), (0,)))
+        self.assertEqual(self.comes(2, walk, 16, True), ((0,), (0,)))
+        self.assertEqual(self.comes(3, walk, 15), ((0,), (1, 2)))
+
     def test_endless(self):
         walk = Walk.read("while left\n  if f\n    set g\n  set f")
         self.comes(1, walk, 2)
