@@ -71,5 +71,6 @@ def comparisons(test, view, line):
     try:
         test(look)
     except Behind:
-        return len(asked)
+        # The word that falls is no comparison.
+        pass
     return len(asked)

@@ -43,9 +43,9 @@ class Heights:
     def chosen_ring(self):
         """The list of the stands of a ring of choices, empty if there is none.
 
-        The choice of a stand told its height by the one behind it, which may have grown since.
-        On a ring it has, behind the stand that was chosen for ahead of the last choice: so a
-        ring of choices gains something.
+        A choice told the height of its stand by the one behind it, which may have grown since
+        then. The choice of a ring that was made last let its own stand grow behind an earlier
+        one: so more is gained on the ring than nothing.
         """
         done = {}
         for first in self.choice:
