@@ -235,16 +235,13 @@ class AlikeTests(HeadsCase):
             walk = Walk.sample(name)
             text = str(walk)
             indented = "\n".join("  " + row for row in text.split("\n"))
-            test = text.split("\n")[0].split(" ", 1)[1]
-            self.alike(walk, Walk.read(f"if {test}\n" + "\n".join("  " + row for row in text.split("\n"))
-                                       if name not in ("union", "xor") else f"if left or right\n{indented}"))
+            self.alike(walk, Walk.read(f"if left or right\n{indented}"))
             self.alike(walk, Walk.read(text + "\nset f"))
             self.alike(walk, Walk.read(text + "\nif f\n  set f"))
             self.alike(walk, Walk.read("set f\n" + text))
             self.alike(walk, Walk.read(text.replace("if less", "if less or less").replace("while left\n", "while left or left\n")))
         self.alike(Walk.sample("both"), Walk.read("while left and right\n  if equal\n    put left\n    step right\n    step left\n"
                                                   "  elif more\n    step right\n  else\n    step left"))
-        self.alike(Walk.sample("sum"), Walk.read("if left or right\n  " + str(Walk.sample("sum")).replace("\n", "\n  ")))
 
     def test_relation(self):
         walks = [*[Walk.sample(name) for name in NAMES], Walk.read(OTHER_SUM), *[walk for pair in fit_pairs(300, 400, 4) for walk in pair]]
